@@ -314,6 +314,8 @@ func TestParseChangedLines(t *testing.T) {
 		for i := range len(line) + 1 {
 			wantCode(t, line[:i], codeOf(line[:i]))
 			wantCode(t, line[i:], codeOf(line[i:]))
+			without := line[:i] + line[min(i+1, len(line)):]
+			wantCode(t, without, codeOf(without))
 			for c := range 256 {
 				inserted := line[:i] + string([]byte{byte(c)}) + line[i:]
 				wantCode(t, inserted, codeOf(inserted))
